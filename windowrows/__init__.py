@@ -1,0 +1,1 @@
+"""Windowrows: running answers over tables, compared for all tables."""
