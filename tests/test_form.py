@@ -9,9 +9,17 @@ import unittest
 PACKAGE = pathlib.Path(__file__).resolve().parent.parent / "windowrows"
 
 # Functions and classes with their parameters, and the methods of each class.
+# The parameters of a class are None if callers do not make its objects.
 FUNCTIONS = {
     "stretches": {"read_stretch": ["text"]},
     "offsets": {"possible": ["rows", "groups", "distance"]},
+    "regions": {
+        "rows_between": ["low", "high"], "groups_between": ["low", "high"], "keys_between": ["low", "high"],
+        "own_row": [], "own_group": [], "ties": [], "every": [], "nothing": [],
+        "weights_of": ["region", "number"], "region_of": ["weights"],
+    },
+    "regiontext": {"read_region": ["text"], "write_region": ["region"]},
+    "frames": {"first_frame": ["region"]},
 }
 CLASSES = {
     "stretches": {
@@ -28,11 +36,37 @@ CLASSES = {
     "cells": {
         "Cell": (["zone", "rows", "groups", "distance"], {"nearest": [], "__contains__": None, "__eq__": None}),
     },
+    "weights": {
+        "Weights": (None, {
+            "at": ["offset"], "cells": [], "nearest": [], "turn": [], "__add__": None, "__sub__": None,
+            "__neg__": None, "__mul__": None, "__rmul__": None, "__eq__": None, "__bool__": None,
+        }),
+    },
+    "regions": {
+        "Region": (None, {
+            "cells": [], "within": ["other"], "rowless": [], "fewest_rows": [], "__and__": None, "__or__": None,
+            "__sub__": None, "__xor__": None, "__invert__": None, "__neg__": None, "__eq__": None,
+            "__contains__": None, "__bool__": None,
+        }),
+    },
+    "frames": {
+        "Frame": (["unit", "start", "end", "*without"], {"region": [], "before": ["other"], "__eq__": None}),
+    },
+    "schemes": {
+        "Sort": (["name", "key", "*part", "*descending"], {"__eq__": None}),
+        "Scheme": (["sorts", "*parts", "*values", "*marks"], {
+            "columns": [], "sort_names": [], "sort_named": ["name"], "__eq__": None,
+        }),
+    },
 }
 
 
 def parameters(function):
-    return list(inspect.signature(function).parameters)
+    """Return the names of the parameters; a star stands before those that are passed by name."""
+    return [
+        ("*" if parameter.kind == parameter.KEYWORD_ONLY else "") + parameter.name
+        for parameter in inspect.signature(function).parameters.values()
+    ]
 
 
 def module_named(name):
@@ -51,7 +85,8 @@ class Interface(unittest.TestCase):
         for module_name, classes in CLASSES.items():
             for name, (names, methods) in classes.items():
                 own_class = getattr(module_named(module_name), name)
-                self.assertEqual(parameters(own_class), names)
+                if names is not None:
+                    self.assertEqual(parameters(own_class), names)
                 self.assertEqual(own_class.__module__, f"windowrows.{module_name}")
                 for method, method_names in methods.items():
                     self.assertIn(method, vars(own_class))

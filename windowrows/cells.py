@@ -40,6 +40,13 @@ class Cell:
         )
 
 
+def stretch_of(cell, unit):
+    """Return the stretch of the rows, the groups or the keys (the distance)."""
+    if unit == "rows":
+        return cell.rows
+    return cell.groups if unit == "groups" else cell.distance
+
+
 def least_size(stretch):
     """Return the least absolute value of a member of the stretch."""
     if stretch.low is not None and stretch.low > 0:

@@ -10,7 +10,7 @@ class Stretch:
     """The integers from low to high; an end that is None is open."""
 
     def __init__(self, low, high):
-        if _turned(low, high):
+        if turned(low, high):
             raise TurnedStretch(low, high)
         self.low = low
         self.high = high
@@ -19,7 +19,7 @@ class Stretch:
         """Return the stretch of the integers in both, or None."""
         low = _greater_low(self.low, other.low)
         high = _lesser_high(self.high, other.high)
-        if _turned(low, high):
+        if turned(low, high):
             return None
         return Stretch(low, high)
 
@@ -89,7 +89,8 @@ def number_end(text, start):
     return end if end > first else start
 
 
-def _turned(low, high):
+def turned(low, high):
+    """Return whether both ends are integers and the low one is greater."""
     return low is not None and high is not None and low > high
 
 

@@ -1,0 +1,84 @@
+"""Weight functions: an integer for every possible offset."""
+
+from windowrows.offsets import Offset
+from windowrows.steps import AXES, ZONES, added, even_steps, joined, scaled, steps_between, support
+
+MIRRORED = {"past": "future", "before": "after", "self": "self", "after": "before", "future": "past"}
+
+
+class Weights:
+    """A weight for every possible offset; by_zone has the Steps of each zone."""
+
+    def __init__(self, by_zone):
+        self.by_zone = by_zone
+
+    def at(self, offset):
+        """Return the weight of an offset."""
+        return self.by_zone[offset.zone].at((abs(offset.groups), abs(offset.distance), abs(offset.rows)))
+
+    def cells(self):
+        """Return the canonical form: a list of tuples (cell, weight)."""
+        return [pair for zone in ZONES for pair in self.by_zone[zone].cells(zone)]
+
+    def nearest(self):
+        """Return the least number of rows of an offset with a weight, or None."""
+        return min([abs(cell.nearest().rows) for cell, worth in self.cells() if cell.zone != "self"], default=None)
+
+    def turn(self):
+        """Return within how many rows two weights differ that differ only in rows.
+
+        Return None if the weight does not depend on rows.
+        """
+        if self.at(Offset(-1, 0, 0)) != self.at(Offset(1, 0, 0)):
+            return 1
+        return min([end for zone in ZONES for end in self.by_zone[zone].row_ends()], default=None)
+
+    def __add__(self, other):
+        return Weights({zone: added(self.by_zone[zone], other.by_zone[zone], 1) for zone in ZONES})
+
+    def __sub__(self, other):
+        return Weights({zone: added(self.by_zone[zone], other.by_zone[zone], -1) for zone in ZONES})
+
+    def __neg__(self):
+        return self * -1
+
+    def __mul__(self, number):
+        return Weights({zone: scaled(self.by_zone[zone], number) for zone in ZONES})
+
+    def __rmul__(self, number):
+        return self * number
+
+    def __eq__(self, other):
+        return isinstance(other, Weights) and self.by_zone == other.by_zone
+
+    def __bool__(self):
+        return bool(self.cells())
+
+
+def even_weights(zones):
+    """Return the weight function that is 1 in these zones and 0 elsewhere."""
+    return Weights({zone: even_steps(zone, int(zone in zones)) for zone in ZONES})
+
+
+def weights_between(unit, stretch):
+    """Return the weight function that is 1 where the number of the unit is in the stretch."""
+    axis = AXES.index(unit)
+    opposite = -stretch
+    return Weights({
+        zone: steps_between(zone, axis, opposite if zone in ("past", "before") else stretch) for zone in ZONES
+    })
+
+
+def joined_weights(first, second, outcomes):
+    """Return outcomes[a][b] where the weights of the two, 0 or 1, are a and b."""
+    return Weights({zone: joined(first.by_zone[zone], second.by_zone[zone], outcomes) for zone in ZONES})
+
+
+def support_of(weights):
+    """Return the weight function that is 1 where the weight is not 0."""
+    return Weights({zone: support(weights.by_zone[zone]) for zone in ZONES})
+
+
+def mirrored(weights):
+    """Return the weight function that has at each offset the weight of its negative."""
+    return Weights({zone: weights.by_zone[MIRRORED[zone]] for zone in ZONES})
