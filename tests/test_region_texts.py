@@ -270,6 +270,14 @@ class Writing(unittest.TestCase):
         self.assertEqual(write_region(ties() - ties()), "none")
         self.assertEqual(write_region(rows_between(1, 2) & groups_between(3, None)), "none")
 
+    def test_nothing_is_written_twice(self):
+        for text in [
+            "self", "groups ..-1 & rows -2..-1 | ties & rows -2..-1 | self", "groups 1..2 & keys 1..40",
+            "groups 1.. & (keys 1..5 & rows 3.. | keys 6.. & rows 1..2)", "groups 3..3 | groups 6..",
+            "ties & rows ..-3 | ties & rows 1..1 | ties & rows 4..", "groups ..-2 & (rows -6..-4 | rows ..-9)",
+        ]:
+            self.assertEqual(write_region(read_region(text)), text)
+
     def test_reads_as_the_region(self):
         for region, _, _ in SAMPLES + basic_samples():
             self.check(region)
