@@ -20,6 +20,22 @@ FUNCTIONS = {
     },
     "regiontext": {"read_region": ["text"], "write_region": ["region"]},
     "frames": {"first_frame": ["region"]},
+    "lays": {"first_lay": ["table"], "lay_count": ["table"], "lay_at": ["table", "number"], "lay_number": ["lay"]},
+    "showing": {"showing": ["scheme", "sort", "offset"]},
+    "formulas": {
+        "number": ["value"], "count_of": ["sort", "window", "*wanted", "*barred"],
+        "sum_of": ["column", "sort", "window", "*wanted", "*barred"], "check": ["scheme", "formula"],
+    },
+    "formulatext": {"read_formula": ["text"], "write_formula": ["formula"]},
+    "named": {
+        "row_number": ["sort"], "rank_of": ["sort"], "peer_count": ["sort"], "part_count": ["sort"],
+        "running": ["column", "sort"], "moving": ["column", "sort", "before", "after"],
+        "shifted": ["column", "sort", "steps"], "own": ["column", "sort"], "rest": ["column", "sort"],
+        "total": ["column", "sort"],
+    },
+    "answers": {"answer": ["lay", "formula", "row"], "answers": ["lay", "formula"]},
+    "plans": {"plan_for": ["scheme", "formula"]},
+    "boards": {"tried": ["board", "deeds", "name"]},
 }
 CLASSES = {
     "stretches": {
@@ -56,6 +72,29 @@ CLASSES = {
         "Sort": (["name", "key", "*part", "*descending"], {"__eq__": None}),
         "Scheme": (["sorts", "*parts", "*values", "*marks"], {
             "columns": [], "sort_names": [], "sort_named": ["name"], "__eq__": None,
+        }),
+    },
+    "tables": {"Table": (["scheme", "rows"], {"record": ["number"], "__len__": None, "__eq__": None})},
+    "lays": {
+        "Lay": (["table", "orders"], {
+            "order": ["sort"], "offset": ["sort", "row", "other"], "exchanges": [],
+            "exchanged": ["sort", "row", "other"], "__eq__": None,
+        }),
+    },
+    "formulas": {
+        "Term": (None, {}),
+        "Formula": (None, {
+            "terms": [], "__add__": None, "__radd__": None, "__sub__": None, "__rsub__": None, "__neg__": None,
+            "__mul__": None, "__rmul__": None, "__eq__": None,
+        }),
+    },
+    "plans": {"Plan": (None, {"pieces": [], "__call__": None})},
+    "boards": {
+        "Board": (["scheme"], {
+            "put": ["row"], "take": ["number"], "exchange": ["sort", "row", "other"], "show": ["name", "formula"],
+            "hide": ["name"], "undo": [], "redo": [], "formula": ["name"], "shown": ["name"], "names": [],
+            "current_lay": [], "trial": [], "__getitem__": None, "__setitem__": None, "__len__": None,
+            "__contains__": None,
         }),
     },
 }

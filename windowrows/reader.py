@@ -1,6 +1,7 @@
 """Tokens of a text, and the spaces between them."""
 
 from windowrows.names import LETTERS
+from windowrows.stretches import DIGITS
 
 
 class Reader:
@@ -23,6 +24,13 @@ class Reader:
         while end < len(self.text) and self.text[end] in LETTERS:
             end += 1
         return self.text[self.place:max(end, self.place + 1)]
+
+    def digits(self):
+        """Return the longest sequence of digits at the place, which may be ""."""
+        end = self.place
+        while end < len(self.text) and self.text[end] in DIGITS:
+            end += 1
+        return self.text[self.place:end]
 
     def takes(self, token):
         """Return whether the next token is this one; if so, go behind it."""

@@ -37,6 +37,10 @@ class Region:
         """Return the least number of rows of a table with an offset of the region, or None."""
         return min([cell.nearest().fewest_rows() for cell in self.cells()], default=None)
 
+    def form(self):
+        """Return a tuple that is the same for equal regions only, as a key."""
+        return self.weights.form()
+
     def __and__(self, other):
         return Region(joined_weights(self.weights, other.weights, BOTH))
 

@@ -42,6 +42,10 @@ class Steps:
         """Return the list of the tuples (cell, weight) in this zone."""
         return [(_cell_at(zone, self.starts, place), self.worths[place]) for place in sorted(list(self.worths))]
 
+    def form(self):
+        """Return a tuple that is the same for equal functions only, as a key."""
+        return self.starts, tuple(sorted(list(self.worths.items())))
+
     def row_ends(self):
         """Return the list of the essential ends of rows."""
         return list(self.starts[ROWS][1:])

@@ -33,6 +33,10 @@ class Weights:
             return 1
         return min([end for zone in ZONES for end in self.by_zone[zone].row_ends()], default=None)
 
+    def form(self):
+        """Return a tuple that is the same for equal functions only, as a key."""
+        return tuple([self.by_zone[zone].form() for zone in ZONES])
+
     def __add__(self, other):
         return Weights({zone: added(self.by_zone[zone], other.by_zone[zone], 1) for zone in ZONES})
 
