@@ -36,6 +36,24 @@ FUNCTIONS = {
     "answers": {"answer": ["lay", "formula", "row"], "answers": ["lay", "formula"]},
     "plans": {"plan_for": ["scheme", "formula"]},
     "boards": {"tried": ["board", "deeds", "name"]},
+    "normals": {"normal_of": ["scheme", "formula"], "formula_of": ["normal"]},
+    "apart": {
+        "alike": ["scheme", "first", "second"], "fewest_rows_apart": ["scheme", "first", "second"],
+        "parting": ["scheme", "first", "second"],
+    },
+    "settled": {
+        "row_sorts": ["scheme", "formula"], "settled": ["scheme", "formula"],
+        "fewest_rows_to_swing": ["scheme", "formula"], "swing": ["scheme", "formula"],
+    },
+    "onetable": {"settled_in": ["table", "formula", "row"], "swing_in": ["table", "formula", "row"]},
+    "breaks": {
+        "keeps_breaks": ["lay", "breaks"], "settled_with": ["facts", "formula", "breaks"],
+        "swing_with": ["facts", "formula", "breaks"], "fewest_breaks": ["facts", "sort"],
+        "breaks_for": ["facts", "formula"],
+    },
+    "ceilings": {"ceiling": ["scheme", "formula"], "never_above": ["scheme", "first", "second"]},
+    "matching": {"best_matching": ["weights"]},
+    "extremes": {"greatest": ["table", "formula", "row"], "least": ["table", "formula", "row"]},
 }
 CLASSES = {
     "stretches": {
@@ -97,6 +115,23 @@ CLASSES = {
             "__contains__": None,
         }),
     },
+    "normals": {
+        "Normal": (None, {
+            "own": ["marks", "column"], "others": ["part", "marks", "column"], "turns": ["sort", "marks", "column"],
+            "components": [], "__sub__": None, "__eq__": None, "__bool__": None,
+        }),
+    },
+    "apart": {"Parting": (None, {})},
+    "settled": {"Swing": (None, {})},
+    "facts": {
+        "Facts": (["scheme", "*unique", "*fixes"], {
+            "closure": ["columns"], "chain": ["columns"], "no_twins": ["columns"], "kept_by": ["table"],
+        }),
+    },
+    "ceilings": {"Ceiling": (None, {"pumped": ["times"]})},
+    "matching": {"Matching": (None, {})},
+    "extremes": {"Extreme": (None, {})},
+    "desk": {"Desk": (["scheme"], {"say": ["line"]})},
 }
 
 

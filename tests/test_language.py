@@ -3,6 +3,7 @@
 import ast
 import builtins
 import pathlib
+import re
 import unittest
 
 PACKAGE = pathlib.Path(__file__).resolve().parent.parent / "windowrows"
@@ -17,6 +18,23 @@ BUILTIN_METHODS = set(
     "items join keys ljust lower lstrip partition pop remove replace reverse rfind rjust rpartition rsplit rstrip "
     "setdefault split splitlines startswith strip update upper values zfill bit_length add discard".split()
 )
+
+
+BARRED_BEGINNINGS = (
+    "_wall", "_WallAttr", "_pe_", "_dcw_", "_enum_", "_cm_", "_twin_re_", "_lay_", "_law_", "_stub_", "_sre", "f_", "tb_", "co_",
+)
+BARRED_NAMES = set(
+    "_cold _tuplegetter _outside _record _written_out _member_names register mro elements open input law version_info "
+    "with_traceback add_note attrgetter breakpoint builtins compile copyright credits delattr dir eval exec exit gc "
+    "getattr globals hasattr help id importlib license locals methodcaller os quit setattr super type vars sys".split()
+)
+BARRED_WORDS = set(
+    "type typing typing_extensions enum Enum IntEnum StrEnum Flag IntFlag Generic Protocol ABC ABCMeta namedtuple "
+    "NamedTuple TypedDict TYPE_CHECKING abstractmethod dataclass overload contextmanager Meta metaclass".split()
+)
+BUILTIN_VALUE_NAMES = {
+    name for kind in (str, int, list, dict, set, bytes) for name in dir(kind) if not name.startswith("__")
+}
 
 
 def nodes(kind):
@@ -99,6 +117,45 @@ class Names(unittest.TestCase):
         self.assertFalse(stored & {"items", "keys", "values", "pop", "update", "append", "sort", "format", "args"})
         self.assertFalse(stored & methods)
         self.assertFalse(methods & {"keys", "sort"})
+
+
+    def all_names(self):
+        """Return pairs (file, name) of all that has a name."""
+        found = []
+        for stem, tree in TREES.items():
+            for node in ast.walk(tree):
+                if isinstance(node, (ast.FunctionDef, ast.ClassDef)):
+                    found.append((stem, node.name))
+                elif isinstance(node, ast.Name):
+                    found.append((stem, node.id))
+                elif isinstance(node, ast.Attribute):
+                    found.append((stem, node.attr))
+                elif isinstance(node, (ast.arg, ast.keyword)):
+                    found.append((stem, node.arg))
+                elif isinstance(node, ast.alias):
+                    found.append((stem, node.name))
+        return found
+
+    def test_names_that_are_not_used(self):
+        for stem, name in self.all_names():
+            self.assertFalse(name.startswith(BARRED_BEGINNINGS), (stem, name))
+            self.assertNotIn(re.sub("[0-9_]*$", "", name), BARRED_NAMES, (stem, name))
+            self.assertTrue(name.isascii(), (stem, name))
+            if name.startswith("__"):
+                self.assertTrue(name.endswith("__"), (stem, name))
+            elif name.startswith("_") and name != "_":
+                self.assertTrue(name[1].isalpha(), (stem, name))
+
+    def test_words_that_do_not_occur(self):
+        for path in PACKAGE.glob("*.py"):
+            words = set(re.findall("[A-Za-z_]+", path.read_text(encoding="ascii")))
+            self.assertFalse(words & BARRED_WORDS, path)
+
+    def test_methods_have_names_of_their_own(self):
+        for stem, owner in nodes(ast.ClassDef):
+            names = [node.name for node in owner.body if isinstance(node, ast.FunctionDef)]
+            self.assertEqual(len(names), len(set(names)), (stem, owner.name))
+            self.assertFalse(set(names) & BUILTIN_VALUE_NAMES, (stem, owner.name))
 
 
 class Calls(unittest.TestCase):

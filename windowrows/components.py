@@ -17,6 +17,21 @@ def component_weights(formula):
     return found
 
 
+def components_in(formula, sort):
+    """Return the weight functions of a sort under keys (marks, column)."""
+    return {
+        (marks, column): weights
+        for (name, marks, column), weights in component_weights(formula).items() if name == sort
+    }
+
+
+def worth(row, marks, column):
+    """Return what a row adds for a weight of 1."""
+    if not all([row[mark] == 1 for mark in marks]):
+        return 0
+    return 1 if column == "" else row[column]
+
+
 def _products(term):
     """Return the list of tuples (marks, factor) that the term is multiplied out to.
 

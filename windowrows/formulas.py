@@ -71,12 +71,21 @@ def number(value):
 
 def count_of(sort, window, *, wanted=(), barred=()):
     """Return the number of the rows in a window that have all wanted and no barred marks."""
-    return _one_term("", sort, window, wanted, barred)
+    return one_term("", sort, window, wanted, barred)
 
 
 def sum_of(column, sort, window, *, wanted=(), barred=()):
     """Return the sum of a column over the rows that count_of counts."""
-    return _one_term(column, sort, window, wanted, barred)
+    return one_term(column, sort, window, wanted, barred)
+
+
+def one_term(column, sort, window, wanted, barred):
+    """Return sum_of a column, or count_of if the column is the empty string."""
+    marks = [*wanted, *barred]
+    for place, mark in enumerate(marks):
+        if mark in marks[:place]:
+            raise MarkTwice(mark)
+    return Formula(0, [Term(1, column, sort, window, wanted, barred)])
 
 
 def check(scheme, formula):
@@ -91,14 +100,6 @@ def check(scheme, formula):
     bad_columns = _others(columns, scheme.value_columns) + _others(marks, scheme.mark_columns)
     if bad_columns:
         raise UnknownColumn(min(bad_columns))
-
-
-def _one_term(column, sort, window, wanted, barred):
-    marks = [*wanted, *barred]
-    for place, mark in enumerate(marks):
-        if mark in marks[:place]:
-            raise MarkTwice(mark)
-    return Formula(0, [Term(1, column, sort, window, wanted, barred)])
 
 
 def _as_formula(value):

@@ -1,6 +1,6 @@
 """Plans: answers by differences of running totals."""
 
-from windowrows.components import component_weights
+from windowrows.components import component_weights, worth
 from windowrows.errors import OtherScheme
 from windowrows.formulas import check
 from windowrows.reaches import Reach
@@ -25,7 +25,7 @@ class Plan:
         reaches = {sort: Reach(lay.line_of(sort)) for sort in lay.lines}
         for (sort, marks, column), cells in self.cells_of.items():
             row_at = lay.line_of(sort).row_at
-            worths = [_worth(lay.table.rows[number], marks, column) for number in row_at]
+            worths = [worth(lay.table.rows[number], marks, column) for number in row_at]
             added = _added_along(reaches[sort], _running_totals(worths), cells)
             for place, number in enumerate(row_at):
                 found[number] += added[place]
@@ -39,6 +39,14 @@ class Plan:
             for cell, weight in cells
         ]
 
+    def __eq__(self, other):
+        return (
+            isinstance(other, Plan)
+            and self.scheme == other.scheme
+            and self.constant == other.constant
+            and self.cells_of == other.cells_of
+        )
+
 
 def plan_for(scheme, formula):
     """Return the plan for a formula on tables of a scheme."""
@@ -47,18 +55,11 @@ def plan_for(scheme, formula):
     return Plan(scheme, formula.constant, {key: weights[key].cells() for key in weights})
 
 
-def _worth(row, marks, column):
-    """Return what a row adds for a weight of 1."""
-    if not all([row[mark] == 1 for mark in marks]):
-        return 0
-    return 1 if column == "" else row[column]
-
-
 def _running_totals(worths):
     """Return the sum of the worths ahead of each place, and at the end of all."""
     found = [0]
-    for worth in worths:
-        found.append(found[-1] + worth)
+    for added in worths:
+        found.append(found[-1] + added)
     return found
 
 

@@ -3,7 +3,7 @@
 from windowrows.offsets import Offset
 from windowrows.steps import ZONES
 from windowrows.stretches import Stretch
-from windowrows.weights import even_weights, joined_weights, mirrored, support_of, weights_between
+from windowrows.weights import even_weights, joined_weights, level_weights, mirrored, support_of, weights_between
 
 UNITS = ("rows", "groups", "keys")
 
@@ -122,3 +122,9 @@ def weights_of(region, number):
 def region_of(weights):
     """Return the region where the weight is not 0."""
     return Region(support_of(weights))
+
+
+def levels_of(weights):
+    """Return the list of the tuples (weight, region that has it), without the weight 0."""
+    worths = sorted(set([worth for cell, worth in weights.cells()]))
+    return [(worth, Region(level_weights(weights, worth))) for worth in worths]

@@ -1,6 +1,6 @@
 """Sorts, and schemes of sorts and columns."""
 
-from windowrows.errors import BadScheme, UnknownSort
+from windowrows.errors import BadScheme, UnknownColumn, UnknownSort
 from windowrows.names import is_name
 
 
@@ -51,6 +51,12 @@ class Scheme:
             if sort.name == name:
                 return sort
         raise UnknownSort(name)
+
+    def check_columns(self, columns):
+        """Raise UnknownColumn for the first name that is no column."""
+        for column in columns:
+            if column not in self.columns():
+                raise UnknownColumn(column)
 
     def __eq__(self, other):
         return (

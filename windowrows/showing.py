@@ -1,23 +1,16 @@
 """Showing an offset in a smallest table."""
 
-from windowrows.lays import first_lay
+from windowrows.placing import empty_row, key_at, lay_with_order, order_outward
 from windowrows.tables import Table
+from windowrows.ways import way_to
 
 
 def showing(scheme, sort, offset):
     """Return (lay, row, other) where the other row lies at the offset as seen from row."""
     shown_sort = scheme.sort_named(sort)
     last = abs(offset.rows)
-    heights = [_height(place, abs(offset.groups), abs(offset.distance)) for place in range(last + 1)]
-    keys = [-height if shown_sort.descending else height for height in heights]
-    empty = {column: 0 for column in scheme.columns()}
-    # The first lay has the rows in the order of their numbers, because they
-    # rise with the heights.
-    lay = first_lay(Table(scheme, [{**empty, shown_sort.key: key} for key in keys]))
-    return (lay, last, 0) if offset.rows < 0 else (lay, 0, last)
-
-
-def _height(place, groups, distance):
-    """Return how far the row at a place lies from the first one."""
-    # The groups before the last one have one row each and lie one apart.
-    return place if place < groups else distance
+    side = -1 if offset.rows < 0 else 1
+    heights = [0] + way_to(last, abs(offset.groups), abs(offset.distance))
+    empty = empty_row(scheme)
+    table = Table(scheme, [{**empty, shown_sort.key: key_at(shown_sort, side * height)} for height in heights])
+    return lay_with_order(table, sort, order_outward(last + 1, side)), 0, last

@@ -9,6 +9,7 @@ from windowrows.stretches import Stretch
 
 ZONES = ("past", "before", "self", "after", "future")
 AXES = ("groups", "keys", "rows")
+KEYS = 1
 ROWS = 2
 
 # Where the first stretch of each axis begins. A stretch that begins at 0
@@ -49,6 +50,23 @@ class Steps:
     def row_ends(self):
         """Return the list of the essential ends of rows."""
         return list(self.starts[ROWS][1:])
+
+    def key_starts(self):
+        """Return the list of the least distances of the stretches of keys."""
+        return list(self.starts[KEYS])
+
+    def change_at(self, end):
+        """Return (groups, distance) of two offsets whose weights differ, one with end - 1 rows and one with end.
+
+        Return None if end is no essential end of rows.
+        """
+        groups, keys, rows = self.starts
+        for group in groups:
+            for key in keys:
+                sizes = (group, max(group, key))
+                if group < end and self.at((*sizes, end - 1)) != self.at((*sizes, end)):
+                    return sizes
+        return None
 
     def __eq__(self, other):
         return isinstance(other, Steps) and self.starts == other.starts and self.worths == other.worths
@@ -94,10 +112,23 @@ def joined(first, second, outcomes):
     return _reduced(starts, {place: outcomes[ones[place]][others[place]] for place in ones})
 
 
+def highest(first, second):
+    """Return the greater one of the weights of the two."""
+    starts = _common_starts(first, second)
+    ones, others = _spread(first, starts), _spread(second, starts)
+    return _reduced(starts, {place: max(ones[place], others[place]) for place in ones})
+
+
 def support(steps):
     """Return the function that is 1 where the weight is not 0."""
     worths = _spread(steps, steps.starts)
     return _reduced(steps.starts, {place: int(worths[place] != 0) for place in worths})
+
+
+def level(steps, worth):
+    """Return the function that is 1 where the weight is this one."""
+    worths = _spread(steps, steps.starts)
+    return _reduced(steps.starts, {place: int(worths[place] == worth) for place in worths})
 
 
 def _reduced(starts, worths):

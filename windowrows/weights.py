@@ -1,7 +1,7 @@
 """Weight functions: an integer for every possible offset."""
 
 from windowrows.offsets import Offset
-from windowrows.steps import AXES, ZONES, added, even_steps, joined, scaled, steps_between, support
+from windowrows.steps import AXES, ZONES, added, even_steps, highest, joined, level, scaled, steps_between, support
 
 MIRRORED = {"past": "future", "before": "after", "self": "self", "after": "before", "future": "past"}
 
@@ -83,6 +83,43 @@ def support_of(weights):
     return Weights({zone: support(weights.by_zone[zone]) for zone in ZONES})
 
 
+def level_weights(weights, worth):
+    """Return the weight function that is 1 where the weight is this one."""
+    return Weights({zone: level(weights.by_zone[zone], worth) for zone in ZONES})
+
+
+def highest_weights(first, second):
+    """Return the weight function that has the greater one of the weights of the two."""
+    return Weights({zone: highest(first.by_zone[zone], second.by_zone[zone]) for zone in ZONES})
+
+
 def mirrored(weights):
     """Return the weight function that has at each offset the weight of its negative."""
     return Weights({zone: weights.by_zone[MIRRORED[zone]] for zone in ZONES})
+
+
+def turned_at(weights):
+    """Return an offset with turn() rows whose weight is not that of after_exchange of it.
+
+    The weight must depend on rows.
+    """
+    turn = weights.turn()
+    if turn == 1:
+        return Offset(1, 0, 0)
+    zone = [zone for zone in ZONES if turn in weights.by_zone[zone].row_ends()][0]
+    groups, distance = weights.by_zone[zone].change_at(turn)
+    return -Offset(turn, groups, distance) if zone in ("past", "before") else Offset(turn, groups, distance)
+
+
+def after_exchange(offset):
+    """Return where another row lies after the row that is asked has changed places with its peer on that side."""
+    if offset.rows < 0:
+        return -after_exchange(-offset)
+    if offset.rows == 1:
+        return Offset(-1, 0, 0)
+    return Offset(offset.rows - 1, offset.groups, offset.distance)
+
+
+def zones_on(side):
+    """Return the zones of the peers and of the other groups, before a row for the side -1, and behind it for 1."""
+    return ("before", "past") if side < 0 else ("after", "future")
